@@ -1,0 +1,1 @@
+"""Aboutface: climbers who turn about."""

@@ -1,0 +1,101 @@
+"""The rules of LANGUAGE.md that are easily forgotten and easily seen in the source."""
+
+import ast
+import builtins
+import pathlib
+import re
+import unittest
+
+ROOT = pathlib.Path(__file__).resolve().parent.parent
+PACKAGE = ROOT / "aboutface"
+FILES = sorted(PACKAGE.glob("*.py"))
+
+BARRED_WORDS = (
+    "type typing typing_extensions enum Enum IntEnum StrEnum Flag IntFlag Generic Protocol ABC ABCMeta "
+    "namedtuple NamedTuple TypedDict TYPE_CHECKING abstractmethod"
+).split()
+BARRED_PARTS = "dataclass overload contextmanager".split()
+BARRED_NODES = (
+    ast.Global, ast.AsyncFunctionDef, ast.AsyncFor, ast.AsyncWith, ast.Await, ast.Div, ast.MatMult, ast.Import,
+)
+ALLOWED_BUILTINS = (
+    "len range enumerate zip min max sum abs sorted reversed int str bool bytes list tuple dict set frozenset "
+    "isinstance ord repr any all divmod iter next Exception ValueError TypeError KeyError IndexError LookupError "
+    "ZeroDivisionError ArithmeticError OverflowError RuntimeError NotImplementedError AttributeError StopIteration "
+    "NotImplemented super property staticmethod classmethod"
+).split()
+
+
+def assigned_names(tree):
+    """All names that the file gives to variables, parameters, functions and classes."""
+    for node in ast.walk(tree):
+        if isinstance(node, ast.Name) and not isinstance(node.ctx, ast.Load):
+            yield node.id
+        elif isinstance(node, ast.arg):
+            yield node.arg
+        elif isinstance(node, ast.ClassDef):
+            yield node.name
+
+
+def read_names(tree):
+    return [node.id for node in ast.walk(tree) if isinstance(node, ast.Name) and isinstance(node.ctx, ast.Load)]
+
+
+class PackageTest(unittest.TestCase):
+    def each_file(self):
+        for path in FILES:
+            with self.subTest(path.name):
+                source = path.read_text(encoding="utf-8")
+                yield source, ast.parse(source)
+
+    def test_the_modules_exist(self):
+        names = [path.stem for path in FILES]
+        for name in ("__init__", "errors", "books", "beats"):
+            self.assertIn(name, names)
+
+    def test_the_folder_holds_only_sources(self):
+        others = [path.name for path in PACKAGE.iterdir() if path.suffix != ".py" and path.name != "__pycache__"]
+        self.assertEqual(others, [])
+
+    def test_sizes(self):
+        for source, tree in self.each_file():
+            lines = source.split("\n")
+            self.assertLessEqual(len(lines), 400)
+            self.assertLessEqual(max(len(line) for line in lines), 120)
+            for node in ast.walk(tree):
+                if isinstance(node, ast.FunctionDef):
+                    self.assertLessEqual(node.end_lineno - node.lineno + 1, 40, node.name)
+
+    def test_characters_and_words(self):
+        for source, tree in self.each_file():
+            self.assertEqual(re.findall(r"[^ -~\n]", source), [])
+            words = re.findall(r"\w+", source)
+            self.assertEqual([word for word in BARRED_WORDS if word in words], [])
+            self.assertEqual([part for part in BARRED_PARTS if part in source], [])
+
+    def test_imports_come_from_the_package(self):
+        for source, tree in self.each_file():
+            for node in ast.walk(tree):
+                if isinstance(node, ast.ImportFrom):
+                    self.assertEqual(node.level, 0)
+                    self.assertTrue(node.module.startswith("aboutface."), node.module)
+
+    def test_statements_and_numbers(self):
+        for source, tree in self.each_file():
+            for node in ast.walk(tree):
+                self.assertNotIsInstance(node, BARRED_NODES)
+                self.assertFalse(isinstance(node, ast.Constant) and isinstance(node.value, float))
+                self.assertFalse(isinstance(node, ast.Constant) and isinstance(node.value, str) and "%" in node.value)
+
+    def test_names(self):
+        known = vars(builtins)
+        for source, tree in self.each_file():
+            for name in assigned_names(tree):
+                self.assertFalse(name.startswith("_"), name)
+                self.assertNotIn(name, known)
+            for name in read_names(tree):
+                self.assertTrue(name not in known or name in ALLOWED_BUILTINS, name)
+
+
+if __name__ == "__main__":
+    unittest.main()
