@@ -1,5 +1,7 @@
 """Books of ladders, standings, faces and states."""
 
+from aboutface.errors import NoClimber
+
 
 def is_whole(value):
     """Tell whether value is an integer; True and False are none."""
@@ -30,6 +32,12 @@ def is_book(value):
             return False
         wanted = max(table)
     return True
+
+
+def check_climber(book, climber):
+    """Raise NoClimber if no climber of the BOOK has this number."""
+    if climber < 0 or climber >= len(book):
+        raise NoClimber(climber)
 
 
 def length_of(book, rungs, climber):

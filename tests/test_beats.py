@@ -5,12 +5,10 @@ import unittest
 
 from aboutface.beats import beat, beats_along, before, blocked, mover, turned
 from aboutface.books import is_state
-from tests.samples import DUO, HIGH, LOW, TRIO
+from tests.samples import DUO, HIGH, LOW, ONE_RUNG, TRIO, WIDE
 from tests.samples import as_lists, books_up_to, mixed, standings_of, states_of
 
 STUCK = ((2, 1), (1, -1))
-ONE_RUNG = ((1,), (1,), (1,))
-WIDE = ((12,),) + ((12,) * 12,) * 19
 BOOKS = books_up_to(3, 3) + [((2,), (2, 1), (1, 2), (3, 1)), ((1,), (2,), (1, 1), (2,))]
 
 

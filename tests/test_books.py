@@ -5,11 +5,8 @@ import itertools
 import unittest
 
 from aboutface.books import is_book, is_standing, is_state, lengths
-from tests.samples import DUO, HIGH, LOW, ODD_VALUES, TRIO
+from tests.samples import DUO, HIGH, LOW, ODD_VALUES, ONE_RUNG, TRIO, WIDE
 from tests.samples import as_lists, books_up_to, mixed, standings_of, states_of
-
-ONE_RUNG = ((1,), (1,), (1,))
-WIDE = ((12,),) + ((12,) * 12,) * 19
 
 
 class ExamplesTest(unittest.TestCase):

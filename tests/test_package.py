@@ -50,7 +50,7 @@ class PackageTest(unittest.TestCase):
 
     def test_the_modules_exist(self):
         names = [path.stem for path in FILES]
-        for name in ("__init__", "errors", "books", "beats"):
+        for name in ("__init__", "errors", "books", "beats", "counts", "rounds", "sums"):
             self.assertIn(name, names)
 
     def test_the_folder_holds_only_sources(self):
@@ -95,6 +95,30 @@ class PackageTest(unittest.TestCase):
                 self.assertNotIn(name, known)
             for name in read_names(tree):
                 self.assertTrue(name not in known or name in ALLOWED_BUILTINS, name)
+
+    def test_no_name_of_an_import_is_given_away(self):
+        for source, tree in self.each_file():
+            brought = [name.name for node in tree.body if isinstance(node, ast.ImportFrom) for name in node.names]
+            self.assertEqual(len(brought), len(set(brought)))
+            self.assertEqual([name for name in assigned_names(tree) if name in brought], [])
+
+    def test_imports_name_the_defining_file_and_are_used(self):
+        for source, tree in self.each_file():
+            used = read_names(tree)
+            for node in tree.body:
+                if isinstance(node, ast.ImportFrom):
+                    other = ast.parse((ROOT / (node.module.replace(".", "/") + ".py")).read_text(encoding="utf-8"))
+                    defined = [one.name for one in other.body if isinstance(one, (ast.FunctionDef, ast.ClassDef))]
+                    for name in node.names:
+                        self.assertIsNone(name.asname)
+                        self.assertIn(name.name, defined)
+                        self.assertIn(name.name, used)
+
+    def test_powers_have_literal_exponents(self):
+        for source, tree in self.each_file():
+            for node in ast.walk(tree):
+                if isinstance(node, ast.BinOp) and isinstance(node.op, ast.Pow):
+                    self.assertIsInstance(node.right, ast.Constant)
 
 
 if __name__ == "__main__":
