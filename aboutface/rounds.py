@@ -32,12 +32,15 @@ def facing_up(state):
     return (standing, faces) if faces[0] == 1 else turned(state)
 
 
-def first_half_state(book, signs, number):
-    """Return the STATE with the clock number, from 0 to N - 1."""
+def first_half_state(book, signs, weights, number):
+    """Return the STATE in the first half of the round whose STANDING counts for the time with this number.
+
+    Every weight is 0 or 1: a STANDING counts if its weight is 1, and more than number of them do.
+    """
     rungs = []
     faces = []
     rest = number
-    rows = running_sums(book, ones(book))
+    rows = running_sums(book, weights)
     for climber, sign in enumerate([1, *signs]):
         face = flipped(book, sign, rungs, faces)
         length = length_of(book, rungs, climber)
@@ -56,7 +59,7 @@ def signs_of(book, state):
 
 def start(book, signs):
     """Return the start of the round with these SIGNS."""
-    return first_half_state(book, signs, 0)
+    return first_half_state(book, signs, ones(book), 0)
 
 
 def is_signs(book, value):
@@ -84,8 +87,8 @@ def state_at(book, signs, number):
     many = standings_many(book)
     rest = number % (2 * many)
     if rest < many:
-        return first_half_state(book, signs, rest)
-    return turned(first_half_state(book, signs, 2 * many - 1 - rest))
+        return first_half_state(book, signs, ones(book), rest)
+    return turned(first_half_state(book, signs, ones(book), 2 * many - 1 - rest))
 
 
 def after(book, state, many):

@@ -144,3 +144,36 @@ def weighed_from_the_eldest(book, weights):
                 grown[rung] = grown.get(rung, 0) + total * weights[climber][rung - 1]
         sums = grown
     return sum(sums.values())
+
+
+# Small books of every kind, few enough for tests that go through much for each state.
+CHOSEN_BOOKS = books_up_to(3, 2) + [
+    ((3,), (1, 3, 1)), ((3,), (1, 1, 3)), ((5,),), DUO, TRIO, ALONE, ONE_RUNG,
+    ((3,), (3, 1, 2), (2, 1, 3)),
+    ((3,), (1, 1, 1), (3,)),
+    ((3,), (1, 1, 2), (1, 3), (1, 1, 2)),
+    ((1,), (3,), (1, 2, 3), (2, 1, 2)),
+    ((2,), (2, 1), (1, 1), (2,)),
+]
+
+# Each of these ladders has two rungs or more only while the older climber is on the last rung.
+LATE = ((12,),) + ((1,) * 11 + (12,),) * 19
+
+
+def starts_and_rounds(book):
+    """The rounds of a book as in rounds_by_beats, each with the climbers who go at its beats."""
+    return [(states, [mover(book, state) for state in states]) for states in rounds_by_beats(book)]
+
+
+def count_along(items, first, many):
+    """How many of many items from the first on, around and around, are true."""
+    times, rest = divmod(many, len(items))
+    return times * sum(map(bool, items)) + sum(bool(items[(first + at) % len(items)]) for at in range(rest))
+
+
+def next_along(items, first):
+    """How many items before the next true one, from the first on, around and around; None if there is none."""
+    for at in range(len(items)):
+        if items[(first + at) % len(items)]:
+            return at
+    return None

@@ -50,7 +50,7 @@ class PackageTest(unittest.TestCase):
 
     def test_the_modules_exist(self):
         names = [path.stem for path in FILES]
-        for name in ("__init__", "errors", "books", "beats", "counts", "rounds", "sums"):
+        for name in ("__init__", "errors", "books", "beats", "counts", "rounds", "sums", "wishes", "goes", "small"):
             self.assertIn(name, names)
 
     def test_the_folder_holds_only_sources(self):
