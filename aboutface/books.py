@@ -68,3 +68,14 @@ def is_state(book, value):
 def lengths(book, standing):
     """Return the tuple of the lengths of all ladders."""
     return tuple([length_of(book, standing, climber) for climber in range(len(book))])
+
+
+def as_book(book):
+    """Return a copy of the BOOK that is made of tuples."""
+    return tuple([tuple(table) for table in book])
+
+
+def as_state(state):
+    """Return a copy of the STATE that is made of tuples."""
+    standing, faces = state
+    return tuple(standing), tuple(faces)

@@ -26,6 +26,13 @@ ALLOWED_BUILTINS = (
 ).split()
 
 
+VALUE_METHODS = (
+    "append clear copy count endswith extend find get index insert isalnum isalpha isdigit islower isspace isupper "
+    "items join keys ljust lower lstrip partition pop remove replace reverse rfind rjust rpartition rsplit rstrip "
+    "setdefault split splitlines startswith strip update upper values zfill bit_length isascii"
+).split()
+
+
 def assigned_names(tree):
     """All names that the file gives to variables, parameters, functions and classes."""
     for node in ast.walk(tree):
@@ -41,6 +48,20 @@ def read_names(tree):
     return [node.id for node in ast.walk(tree) if isinstance(node, ast.Name) and isinstance(node.ctx, ast.Load)]
 
 
+def own_methods(tree):
+    return [
+        one.name
+        for node in ast.walk(tree) if isinstance(node, ast.ClassDef)
+        for one in node.body if isinstance(one, ast.FunctionDef)
+    ]
+
+
+def own_attributes(tree):
+    return [
+        node.attr for node in ast.walk(tree) if isinstance(node, ast.Attribute) and isinstance(node.ctx, ast.Store)
+    ]
+
+
 class PackageTest(unittest.TestCase):
     def each_file(self):
         for path in FILES:
@@ -50,7 +71,8 @@ class PackageTest(unittest.TestCase):
 
     def test_the_modules_exist(self):
         names = [path.stem for path in FILES]
-        for name in ("__init__", "errors", "books", "beats", "counts", "rounds", "sums", "wishes", "goes", "small"):
+        for name in ("__init__", "errors", "books", "beats", "counts", "rounds", "sums", "wishes", "goes", "small", "changes", "house",
+                     "texts", "desk"):
             self.assertIn(name, names)
 
     def test_the_folder_holds_only_sources(self):
@@ -119,6 +141,56 @@ class PackageTest(unittest.TestCase):
             for node in ast.walk(tree):
                 if isinstance(node, ast.BinOp) and isinstance(node.op, ast.Pow):
                     self.assertIsInstance(node.right, ast.Constant)
+
+    def test_generators_are_not_used(self):
+        for source, tree in self.each_file():
+            for node in ast.walk(tree):
+                self.assertNotIsInstance(node, (ast.GeneratorExp, ast.Yield, ast.YieldFrom, ast.Lambda))
+
+    def test_methods_and_attributes(self):
+        trees = [ast.parse(path.read_text(encoding="utf-8")) for path in FILES]
+        methods = {name for tree in trees for name in own_methods(tree)}
+        attributes = {name for tree in trees for name in own_attributes(tree)}
+        self.assertEqual(methods & attributes, set())
+        for value in ("", 0, [], {}, set(), b"", ()):
+            self.assertEqual([name for name in methods | attributes if name[0] != "_" and hasattr(value, name)], [])
+        for tree in trees:
+            called = [node.func.attr for node in ast.walk(tree)
+                      if isinstance(node, ast.Call) and isinstance(node.func, ast.Attribute)]
+            self.assertEqual([name for name in called if name not in methods and name not in VALUE_METHODS], [])
+
+    def test_is_stands_only_with_none(self):
+        for source, tree in self.each_file():
+            for node in ast.walk(tree):
+                if isinstance(node, ast.Compare) and any(isinstance(op, (ast.Is, ast.IsNot)) for op in node.ops):
+                    self.assertIsNone(ast.literal_eval(node.comparators[0]))
+
+    def test_only_own_errors_are_caught_and_raised(self):
+        own = [node.name for node in ast.parse((PACKAGE / "errors.py").read_text(encoding="utf-8")).body
+               if isinstance(node, ast.ClassDef)]
+        for source, tree in self.each_file():
+            for node in ast.walk(tree):
+                if isinstance(node, ast.ExceptHandler):
+                    caught = node.type.elts if isinstance(node.type, ast.Tuple) else [node.type]
+                    self.assertEqual([one.id for one in caught if one.id not in own], [])
+                if isinstance(node, ast.Raise) and node.exc is not None:
+                    self.assertIn(node.exc.func.id, own)
+
+    def test_no_circle_of_imports(self):
+        needs = {}
+        for path in FILES:
+            tree = ast.parse(path.read_text(encoding="utf-8"))
+            needs[f"aboutface.{path.stem}"] = [node.module for node in tree.body if isinstance(node, ast.ImportFrom)]
+        while needs:
+            free = [name for name in needs if not any(other in needs for other in needs[name])]
+            self.assertNotEqual(free, [], sorted(needs))
+            needs = {name: needs[name] for name in needs if name not in free}
+
+    def test_builtins_are_called_without_keywords(self):
+        for source, tree in self.each_file():
+            for node in ast.walk(tree):
+                if isinstance(node, ast.Call) and isinstance(node.func, ast.Name) and node.func.id in vars(builtins):
+                    self.assertEqual(node.keywords, [])
 
 
 if __name__ == "__main__":
