@@ -140,7 +140,8 @@ class DeedsTest(HouseTest):
             for many in (FAR, -FAR, FAR - 1, 1, -FAR, -1, 1 - FAR, FAR):
                 house.beat(many)
                 self.check_as_new(house)
-            self.assertEqual(house.state(), after(book, first, FAR - 1 + 1 - 1 + 1 - FAR))
+            # The numbers of beats add up to 0.
+            self.assertEqual(house.state(), first)
             self.assertEqual(house.deeds(), 8)
         house = House(TRIO)
         house.beat(-1)
